@@ -192,3 +192,20 @@ def right_comb(forks):
 def left_comb(forks):
     """Forks whose first branch goes on and whose second one is a leaf, in BED."""
     return ("fork",) * forks + ("leaf",) * (forks + 1)
+
+
+def tower(knots):
+    """A reader of BED that marks exactly one plant, which has 1,999, 2,000 or 2,001 knots.
+
+    State n up to 9 has the full binary plant with 2 ** (n + 1) - 1 knots; a fork over it and another plant adds
+    2 ** (n + 1) knots to that plant, and a twig adds one. State 39 has all other plants.
+    """
+    rows = [("leaf", (), 0)] + [("fork", (state, state), state + 1) for state in range(9)]
+    last = 9
+    for state in (8, 7, 6, 5, 3):
+        rows.append(("fork", (state, last), last + 1))
+        last = last + 1
+    if knots > 1999:
+        rows.append(("twig", (last,), last + 1) if knots == 2000 else ("fork", (0, last), last + 1))
+        last = last + 1
+    return Reader(BED, 40, tuple(rows), (last,), otherwise=39)
