@@ -58,7 +58,7 @@ def chosen_reader(machine, chosen, states, marked):
         for below in all_rows(list(range(len(chosen))), many):
             row = tuple([chosen[state] for state in below])
             rows.append((kind, below, states[machine.cells[kind][row]]))
-    results = [state for _, _, state in rows]
+    results = [row[2] for row in rows]
     # Leaving out the rows of the most frequent state keeps readers small and work with them quick.
     usual = max(list(range(len(chosen))), key=lambda state: results.count(state))
     kept = tuple([row for row in rows if row[2] != usual])

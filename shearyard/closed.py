@@ -66,6 +66,6 @@ def result_masks(reader, kind, masks):
                     found = 0
                     for state in members[mask]:
                         found = found | results[before + (state,), behind]
-                    joined[before, (mask, *behind)] = found
+                    joined[before, (mask,) + behind] = found
         results = joined
     return results

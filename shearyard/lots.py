@@ -2,9 +2,7 @@
 
 from shearyard.beds import check_beds
 from shearyard.classes import canonical_reader
-from shearyard.errors import TooMany
 from shearyard.least import least_marked
-from shearyard.limits import MOST_STATES
 from shearyard.machines import joint_machine
 from shearyard.plants import check_plant
 from shearyard.readers import Reader
@@ -79,11 +77,9 @@ def only(bed, plant):
         if (kind, below) not in numbers:
             numbers[kind, below] = len(numbers)
         waiting.append(numbers[kind, below])
-    # One more state is needed for all other plants.
-    other = len(numbers)
-    if other >= MOST_STATES:
-        raise TooMany("states", MOST_STATES)
     rows = [(kind, below, number) for (kind, below), number in numbers.items()]
+    # The one state more is that of all other plants; with it, 40 branches are too many for a reader.
+    other = len(numbers)
     reader = Reader(bed, other + 1, tuple(rows), (waiting[0],), otherwise=other)
     return all_of(reader)
 

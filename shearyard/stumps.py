@@ -84,38 +84,33 @@ def common(bed, first, *others):
 
 def shared_stump(bed, first, second):
     """The common stump of two stumps."""
-    first_ends, second_ends = ends_of(bed, first), ends_of(bed, second)
     entries = []
+    for branch, other in compared(bed, first, second):
+        entries.extend(branch if branch == other else (HOLE,))
+    return tuple(entries)
+
+
+def compared(bed, first, second):
+    """The pairs of equal entries of two stumps from the root on, and of the whole branches where the entries differ."""
+    first_ends, second_ends = ends_of(bed, first), ends_of(bed, second)
+    pairs = []
     left = right = 0
     while left < len(first):
-        if first[left] == second[right]:
-            entries.append(first[left])
-            left += 1
-            right += 1
-        else:
-            entries.append(HOLE)
-            left, right = first_ends[left], second_ends[right]
-    return tuple(entries)
+        left_end, right_end = left + 1, right + 1
+        if first[left] != second[right]:
+            left_end, right_end = first_ends[left], second_ends[right]
+        pairs.append((first[left:left_end], second[right:right_end]))
+        left, right = left_end, right_end
+    return pairs
 
 
 def united(bed, first, second):
     """The least stump that both stumps begin, or None."""
     check_stumps(bed, (first, second))
-    first_ends, second_ends = ends_of(bed, first), ends_of(bed, second)
     entries = []
-    left = right = 0
-    while left < len(first):
-        if first[left] == second[right]:
-            entries.append(first[left])
-            left += 1
-            right += 1
-        elif HOLE in (first[left], second[right]):
-            if first[left] == HOLE:
-                entries.extend(second[right:second_ends[right]])
-            else:
-                entries.extend(first[left:first_ends[left]])
-            left, right = first_ends[left], second_ends[right]
-        else:
+    for branch, other in compared(bed, first, second):
+        if branch != other and HOLE not in (branch[0], other[0]):
             return None
+        entries.extend(other if branch[0] == HOLE else branch)
     check_size(entries)
     return tuple(entries)

@@ -1,0 +1,135 @@
+"""The interface: where each name is defined, its arguments, and the examples as they are written."""
+
+import importlib
+import inspect
+import os
+import unittest
+
+from shearyard.errors import YardError
+from tests.reference import BED
+
+SIGNATURES = {
+    "beds": {"Bed": "(*kinds)"},
+    "plants": {
+        "check_plant": "(bed, plant)", "plant_key": "(bed, plant)", "height": "(bed, plant)",
+        "counted": "(bed, plant)", "branches_of": "(bed, plant)", "planted": "(bed, kind, *below)",
+        "paths": "(bed, plant)", "branch_at": "(bed, plant, path)", "replaced": "(bed, plant, path, other)",
+    },
+    "stumps": {
+        "check_stump": "(bed, stump)", "stump_key": "(bed, stump)", "holes": "(bed, stump)",
+        "filled": "(bed, stump, *pieces)", "begins": "(bed, stump, other)", "parts": "(bed, stump, other)",
+        "common": "(bed, first, *others)", "united": "(bed, first, second)",
+    },
+    "texts": {"written": "(bed, stump)", "read_stump": "(bed, text)", "read_plant": "(bed, text)"},
+    "growing": {"plants_of": "(bed, knots)", "plants_upto": "(bed, knots)", "number_of": "(bed, knots)"},
+    "readers": {"Reader": "(bed, states, rows, marks, *, otherwise=0)"},
+    "canon": {"least_plants": "(reader)", "canonical": "(reader)", "least_in": "(reader)"},
+    "lots": {
+        "all_of": "(first, *others)", "any_of": "(first, *others)", "without": "(first, second)",
+        "complement": "(reader)", "apart": "(first, second)", "escaped": "(first, second)",
+        "only": "(bed, plant)", "everything": "(bed)",
+    },
+    "counting": {"number_in": "(reader, knots)", "each_in": "(reader, knots)", "finite": "(reader)"},
+    "closed": {"closed_pairs": "(first, second)", "is_closed": "(first, second, pairs)"},
+}
+METHODS = {
+    ("beds", "Bed"): {
+        "leaves": "(self)", "branches": "(self, kind)", "rank": "(self, kind)", "same": "(self, other)",
+        "written": "(self)",
+    },
+    ("readers", "Reader"): {
+        "step": "(self, kind, below)", "state_of": "(self, plant)", "states_of": "(self, plant)", "table": "(self)",
+        "__contains__": "(self, plant)",
+    },
+}
+EXAMPLES = (
+    """
+>>> from shearyard.beds import Bed
+>>> Bed.read("leaf/0 fork/2").rows
+(('leaf', 0), ('fork', 2))
+""",
+    """
+>>> from shearyard.beds import Bed
+>>> Bed(("leaf", 0), ("fork", 2), ("leaf", 1))
+raises InvalidBed(place=2)
+""",
+    """
+>>> from shearyard.plants import check_plant
+>>> check_plant(BED, ("fork", "leaf"))
+raises InvalidPlant(place=2)
+""",
+    """
+>>> from shearyard.plants import replaced
+>>> replaced(BED, ("fork", "twig", "bud", "leaf"), (0,), ("leaf",))
+('fork', 'leaf', 'leaf')
+""",
+    """
+>>> from shearyard.stumps import common
+>>> common(BED, ("fork", "bud", "leaf"), ("fork", "twig", "bud", "leaf"))
+('fork', '*', 'leaf')
+""",
+    """
+>>> from shearyard.texts import written
+>>> written(BED, ("fork", "twig", "bud", "*"))
+'fork(twig(bud),*)'
+""",
+    """
+>>> from shearyard.growing import plants_upto
+>>> list(plants_upto(BED, 2))
+[('leaf',), ('bud',), ('twig', 'leaf'), ('twig', 'bud')]
+""",
+    """
+>>> from shearyard.readers import Reader
+>>> from shearyard.closed import closed_pairs
+>>> odd = Reader(BED, 2, (("leaf", (), 1), ("bud", (), 1), ("twig", (0,), 1), ("fork", (0, 0), 1), """
+    """("fork", (1, 1), 1)), (1,))
+>>> closed_pairs(odd, odd)
+((0, 0), (1, 1))
+""",
+)
+
+
+def told(row, names):
+    """What an example's row shows."""
+    try:
+        return repr(eval(row, names))
+    except YardError as error:
+        values = ", ".join([f"{name}={value!r}" for name, value in vars(error).items()])
+        return f"raises {error.__class__.__name__}({values})"
+
+
+class Interface(unittest.TestCase):
+    def test_names_and_arguments(self):
+        for file, functions in SIGNATURES.items():
+            module = importlib.import_module(f"shearyard.{file}")
+            for name, signature in functions.items():
+                with self.subTest(f"{file}.{name}"):
+                    value = getattr(module, name)
+                    self.assertEqual(str(inspect.signature(value)), signature)
+                    self.assertEqual((value.__module__, value.__name__), (f"shearyard.{file}", name))
+
+    def test_methods_stand_in_the_class_itself(self):
+        for (file, name), methods in METHODS.items():
+            body = vars(getattr(importlib.import_module(f"shearyard.{file}"), name))
+            for method, signature in methods.items():
+                with self.subTest(f"{name}.{method}"):
+                    self.assertEqual(str(inspect.signature(body[method])), signature)
+
+    def test_read_is_a_class_method(self):
+        bed = importlib.import_module("shearyard.beds").Bed
+        self.assertIsInstance(vars(bed)["read"], classmethod)
+        self.assertEqual(str(inspect.signature(bed.read)), "(text)")
+
+    def test_examples(self):
+        for example in EXAMPLES:
+            names = {"BED": BED}
+            *rows, wanted = example.strip().split("\n")
+            for row in rows[:-1]:
+                exec(row.removeprefix(">>> "), names)
+            self.assertEqual(told(rows[-1].removeprefix(">>> "), names), wanted)
+
+    def test_the_package_holds_nothing_but_python_files(self):
+        folder = os.path.dirname(importlib.import_module("shearyard").__file__)
+        others = [name for name in os.listdir(folder) if not name.endswith(".py") and name != "__pycache__"]
+        self.assertEqual(others, [])
+        self.assertIn("__init__.py", os.listdir(folder))
