@@ -3,8 +3,13 @@
 
 def all_rows(states, many):
     """All rows of that many of these states, in the order of the states."""
+    return rows_from([states] * many)
+
+
+def rows_from(lists):
+    """All rows with one state of each list, in the order of the lists."""
     rows = [()]
-    for _ in range(many):
+    for states in lists:
         rows = [row + (state,) for row in rows for state in states]
     return rows
 

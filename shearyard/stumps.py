@@ -39,6 +39,13 @@ def filled(bed, stump, *pieces):
     if len(pieces) != wanted:
         raise WrongBranches(wanted, len(pieces))
     check_stumps(bed, pieces)
+    entries = filled_holes(stump, pieces)
+    check_size(entries)
+    return tuple(entries)
+
+
+def filled_holes(stump, pieces):
+    """The entries of the stump with these pieces in its holes, unchecked."""
     entries = []
     given = 0
     for entry in stump:
@@ -47,8 +54,7 @@ def filled(bed, stump, *pieces):
             given += 1
         else:
             entries.append(entry)
-    check_size(entries)
-    return tuple(entries)
+    return entries
 
 
 def begins(bed, stump, other):
@@ -59,14 +65,19 @@ def begins(bed, stump, other):
 def parts(bed, stump, other):
     """What stands at the stump's holes in the other one, or None if the stump does not begin it."""
     check_stumps(bed, (stump, other))
-    ends = ends_of(bed, other)
+    return parts_in(bed, stump, other)
+
+
+def parts_in(bed, stump, tree):
+    """What stands at the stump's holes in a tree, unchecked, or None if the stump does not begin it."""
+    ends = ends_of(bed, tree)
     found = []
     place = 0
     for entry in stump:
         if entry == HOLE:
-            found.append(other[place:ends[place]])
+            found.append(tree[place:ends[place]])
             place = ends[place]
-        elif entry == other[place]:
+        elif entry == tree[place]:
             place += 1
         else:
             return None

@@ -31,6 +31,34 @@ SIGNATURES = {
     },
     "counting": {"number_in": "(reader, knots)", "each_in": "(reader, knots)", "finite": "(reader)"},
     "closed": {"closed_pairs": "(first, second)", "is_closed": "(first, second, pairs)"},
+    "gardeners": {
+        "Gardener": "(bed, name)", "Gate": "(reader, *, name='gate')",
+        "Shear": "(bed, states, rows, *, start=0, name='shear')",
+    },
+    "chains": {"chained": "(first, second)"},
+    "backward": {"before": "(reader, shear)"},
+    "forward": {"image": "(reader, shear)"},
+    "gardens": {"Garden": "(bed, *gardeners, name='garden')"},
+    "oneness": {"admitted": "(garden)", "one_shear": "(garden)", "as_one": "(garden)"},
+    "comings": {
+        "comes_from": "(garden, reader)", "outcomes": "(garden, reader)", "unmarked": "(garden, reader)",
+        "sources": "(garden, plant)",
+    },
+    "alike": {
+        "parting": "(first, second)", "same": "(first, second)", "alike_paper": "(first, second)",
+        "is_alike_paper": "(first, second, paper)",
+    },
+    "earliness": {"sure": "(shear, state)", "earliest": "(shear)", "regrown": "(bed, form)"},
+    "ordering": {
+        "orders": "(bed, *gardeners)", "any_order": "(bed, *gardeners)", "settles": "(garden, *, most=4)",
+        "undone": "(first, second)",
+    },
+    "trims": {"Trim": "(bed, stump, result)", "Trims": "(bed, *trims, name='trims')"},
+    "trimming": {
+        "spots": "(trims, plant)", "cut_at": "(trims, plant, path, index)", "way": "(trims, plant, *, last=False)",
+        "end": "(trims, plant, *, last=False)", "walked": "(trims, plant, spots)", "ends": "(trims, plant)",
+        "fewest": "(trims, plant)",
+    },
 }
 METHODS = {
     ("beds", "Bed"): {
@@ -41,7 +69,22 @@ METHODS = {
         "step": "(self, kind, below)", "state_of": "(self, plant)", "states_of": "(self, plant)", "table": "(self)",
         "__contains__": "(self, plant)",
     },
+    ("gardeners", "Gardener"): {"work": "(self, plant)"},
+    ("gardeners", "Gate"): {"work": "(self, plant)"},
+    ("gardeners", "Shear"): {
+        "work": "(self, plant)", "__call__": "(self, plant)", "work_from": "(self, plant, state)",
+        "step": "(self, state, kind)", "table": "(self)", "reached": "(self)",
+    },
+    ("gardens", "Garden"): {
+        "__call__": "(self, plant)", "stages": "(self, plant)", "admits": "(self, plant)", "__len__": "(self)",
+        "__add__": "(self, other)",
+    },
+    ("trims", "Trims"): {"__len__": "(self)"},
 }
+CLASS_METHODS = {
+    ("beds", "Bed"): {"read": "(text)"}, ("gardeners", "Shear"): {"keeping": "(bed)", "mirror": "(bed)"},
+}
+PROPERTIES = {("beds", "Bed"): ("leaf",), ("gardeners", "Shear"): ("copies", "drops")}
 EXAMPLES = (
     """
 >>> from shearyard.beds import Bed
@@ -86,6 +129,44 @@ raises InvalidPlant(place=2)
 >>> closed_pairs(odd, odd)
 ((0, 0), (1, 1))
 """,
+    """
+>>> from shearyard.gardeners import Shear
+>>> twice = Shear(BED, 1, ((0, "twig", ("fork", (0, 0), (0, 0))),))
+>>> twice(("twig", "twig", "bud")), twice.copies
+(('fork', 'fork', 'bud', 'bud', 'fork', 'bud', 'bud'), True)
+""",
+    """
+>>> from shearyard.gardeners import Shear
+>>> from shearyard.gardens import Garden
+>>> from shearyard.comings import outcomes
+>>> from shearyard.readers import Reader
+>>> twice = Shear(BED, 1, ((0, "twig", ("fork", (0, 0), (0, 0))),))
+>>> alike = Reader(BED, 3, (("leaf", (), 1), ("bud", (), 1), ("twig", (0,), 0), ("twig", (1,), 2)), (1,))
+>>> outcomes(Garden(BED, twice), alike)
+(('twig', 'leaf'), ('leaf',), None)
+""",
+    """
+>>> from shearyard.gardeners import Shear
+>>> from shearyard.gardens import Garden
+>>> from shearyard.alike import parting
+>>> mirror = Garden(BED, Shear.mirror(BED))
+>>> parting(mirror, Garden(BED)), parting(mirror + mirror, Garden(BED))
+(('fork', 'leaf', 'bud'), None)
+""",
+    """
+>>> from shearyard.gardeners import Shear
+>>> from shearyard.earliness import sure
+>>> sure(Shear(BED, 2, ((0, "leaf", ("twig", "leaf")), (0, "bud", ("twig", "bud")), (0, "twig", ("twig", (1, 0))), """
+    """(0, "fork", ("twig", "leaf")))), 0)
+('twig', '*')
+""",
+    """
+>>> from shearyard.trims import Trim, Trims
+>>> from shearyard.trimming import spots, ends
+>>> trims = Trims(BED, Trim(BED, ("fork", "bud", "*"), (0,)), Trim(BED, ("fork", "*", "bud"), (0,)))
+>>> spots(trims, ("fork", "bud", "bud")), ends(trims, ("fork", "bud", "fork", "leaf", "bud"))
+((((), 0), ((), 1)), (('leaf',),))
+""",
 )
 
 
@@ -115,10 +196,18 @@ class Interface(unittest.TestCase):
                 with self.subTest(f"{name}.{method}"):
                     self.assertEqual(str(inspect.signature(body[method])), signature)
 
-    def test_read_is_a_class_method(self):
-        bed = importlib.import_module("shearyard.beds").Bed
-        self.assertIsInstance(vars(bed)["read"], classmethod)
-        self.assertEqual(str(inspect.signature(bed.read)), "(text)")
+    def test_class_methods(self):
+        for (file, name), methods in CLASS_METHODS.items():
+            owner = getattr(importlib.import_module(f"shearyard.{file}"), name)
+            for method, signature in methods.items():
+                self.assertIsInstance(vars(owner)[method], classmethod)
+                self.assertEqual(str(inspect.signature(getattr(owner, method))), signature)
+
+    def test_properties(self):
+        for (file, name), properties in PROPERTIES.items():
+            for value in properties:
+                body = vars(getattr(importlib.import_module(f"shearyard.{file}"), name))
+                self.assertIsInstance(body[value], property)
 
     def test_examples(self):
         for example in EXAMPLES:
