@@ -145,6 +145,18 @@ class Parting(YardTest):
         second = Shear(BED, 1, ((0, "fork", ("twig", (0, 0))),))
         self.assertEqual(parting(one(first), one(second)), ("fork", "leaf", "bud"))
 
+    def test_the_order_of_plants_where_larger_ones_have_lesser_ranks(self):
+        """In this bed a chain has lesser ranks than its tip."""
+        bed = Bed(("twig", 1), ("fork", 2), ("leaf", 0), ("bud", 0))
+        rows = (("bud", (), 2), ("twig", (0,), 1), ("fork", (0, 1), 2), ("fork", (1, 0), 2))
+        even, odd = Gate(Reader(bed, 3, rows, (0,))), Gate(Reader(bed, 3, rows, (2,)))
+        twigs = Shear(bed, 1, ((0, "fork", ("twig", "leaf")),))
+        leaves = Shear(bed, 1, ((0, "fork", ("leaf",)),))
+        self.assertEqual(parting(one(even, twigs), one(even, leaves)), ("fork", "leaf", "leaf"))
+        self.assertEqual(parting(one(odd, twigs), one(odd, leaves)), ("fork", "twig", "leaf", "leaf"))
+        short = Shear(bed, 1, ((0, "twig", ((0, 0),)), (0, "bud", ("leaf",))))
+        self.assertEqual(parting(one(short), Garden(bed)), ("bud",))
+
     def test_far_from_the_root(self):
         late = turning(40, (39, "leaf", ("bud",)))
         self.assertEqual(parting(one(late), one(Shear.keeping(CHAINS))), ("twig",) * 39 + ("leaf",))

@@ -145,12 +145,22 @@ class Ways(YardTest):
 
     def test_a_trim_that_fits_anew_below(self):
         """The first spot may be one that the last trim has made, nearer to the root."""
-        trims = Trims(BED, Trim(BED, ("fork", "twig", "twig", "leaf", "*"), (0,)), Trim(BED, ("twig", "bud"), ("leaf",)))
+        leaves = Trim(BED, ("twig", "bud"), ("leaf",))
+        trims = Trims(BED, Trim(BED, ("fork", "twig", "twig", "leaf", "*"), (0,)), leaves)
         plant = ("twig", "fork", "twig", "twig", "twig", "bud", "twig", "bud")
         for last in (False, True):
             taken, finished = whole_way(trims, plant, last)
             self.assertEqual((way(trims, plant, last=last), end(trims, plant, last=last)), (taken, finished))
         self.assertEqual(way(trims, plant)[:2], (((0, 0, 0, 0), 1), ((0,), 0)))
+
+    def test_a_trim_that_fits_anew_below_is_before_what_is_left_above(self):
+        bud = Trim(BED, ("fork", "bud", "*"), (0,))
+        for many in (1, 2):
+            trims = Trims(BED, bud, Trim(BED, ("twig",) * (many + 1) + ("*",), ("twig",) * many + (0,)))
+            plant = ("twig",) * many + ("fork", "bud", "twig", "fork", "bud", "leaf")
+            inner = (0,) * many
+            self.assertEqual(way(trims, plant), ((inner, 0), ((), 1), (inner, 0)))
+            self.assertEqual(way(trims, plant, last=True), ((inner + (1, 0), 0), (inner, 0), ((), 1)))
 
     def test_the_spots_of_a_walk_are_those_of_the_moment(self):
         self.assertEqual(walked(SHORT, chain(5), (((0,), 0), ((), 0))), chain(3))
