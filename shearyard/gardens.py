@@ -25,7 +25,8 @@ class Garden:
 
     def __add__(self, other):
         check_beds([self.bed, other.bed])
-        return Garden(self.bed, *self.gardeners, *other.gardeners, name=self.name)
+        row = [*self.gardeners, *other.gardeners]
+        return Garden(self.bed, *row, name=self.name)
 
     def stages(self, plant):
         """The plant before the first gardener and the plants behind each one; raises Refused and TooMany."""
