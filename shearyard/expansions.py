@@ -8,22 +8,42 @@ from shearyard.sides import Side
 def pairs_in(forest, left, right):
     """The pairs of branches at the places where one of two trees has a call, compared from the roots downwards.
 
-    Where neither of the trees has a call, they are the same.
+    None if the trees differ elsewhere.
     """
     found = []
     seen = {}
     waiting = [(left, right)]
     while waiting:
         pair = waiting.pop()
-        one, other = pair
-        if pair in seen or (forest.closed[one] and forest.closed[other]):
-            continue
-        seen[pair] = True
-        if isinstance(forest.labels[one], str) and isinstance(forest.labels[other], str):
-            waiting.extend(list(zip(forest.below[one], forest.below[other])))
-        else:
-            found.append(pair)
+        if pair not in seen:
+            seen[pair] = True
+            labels = [forest.labels[node] for node in pair]
+            if not isinstance(labels[0], str) or not isinstance(labels[1], str):
+                found.append(pair)
+            elif labels[0] != labels[1]:
+                return None
+            elif pair[0] != pair[1] or not forest.closed[pair[0]]:
+                waiting.extend(list(zip(forest.below[pair[0]], forest.below[pair[1]])))
     return found
+
+
+class Unfolding:
+    """Two sides that are unfolded over a knot, and the branches that they call, ascending.
+
+    `pairs` lists their pairs, each with the branches that are called in it; it is None if the sides always differ.
+    """
+
+    def __init__(self, forest, sides, nodes):
+        self.nodes = nodes
+        self.called = called_in(sides, nodes)
+        pairs = pairs_in(forest, nodes[0], nodes[1])
+        self.pairs = None if pairs is None else [(pair, called_in(sides, pair)) for pair in pairs]
+
+
+def called_in(sides, nodes):
+    """The branches that one of two unfolded sides calls, ascending."""
+    called = [branch for side, node in zip(sides, nodes) for branch in side.branches_at(node)]
+    return tuple(sorted(set(called)))
 
 
 class Comparison:
@@ -34,8 +54,7 @@ class Comparison:
         self.forest = Forest()
         self.bases = Bases(reader)
         self.sides = [Side(self.forest, self.bases, shear) for shear in shears]
-        self.known_branches = {}
-        self.pairs = {}
+        self.unfoldings = {}
         self.equations = {}
 
     def holds(self, equation):
@@ -52,29 +71,29 @@ class Comparison:
         state, left, right = equation
         found = []
         for kind in self.kinds:
-            nodes = (self.sides[0].unfolded(left, kind), self.sides[1].unfolded(right, kind))
-            branches = self.branches_at(nodes)
-            for below in self.bases.expansions(kind, branches, state):
-                found.append((kind, below, self.equations_over(nodes, below)))
+            unfolding = self.unfolded(left, right, kind)
+            for below in self.bases.expansions(kind, unfolding.called, state):
+                found.append((kind, below, self.equations_over(unfolding, below)))
         return found
 
-    def branches_at(self, nodes):
-        """The branches that one of two unfolded sides calls, ascending."""
-        if nodes not in self.known_branches:
-            called = [branch for side, node in zip(self.sides, nodes) for branch in side.branches_at(node)]
-            self.known_branches[nodes] = tuple(sorted(set(called)))
-        return self.known_branches[nodes]
+    def unfolded(self, left, right, kind):
+        """The unfolding of two sides over a knot of this kind."""
+        if (left, right, kind) not in self.unfoldings:
+            nodes = (self.sides[0].unfolded(left, kind), self.sides[1].unfolded(right, kind))
+            self.unfoldings[left, right, kind] = Unfolding(self.forest, self.sides, nodes)
+        return self.unfoldings[left, right, kind]
 
-    def equations_over(self, nodes, below):
-        """The pairs (branch, equation) of an expansion with these unfolded sides, or None if it fails."""
-        plants = [side.checked(side.filled(node, below, None)) for side, node in zip(self.sides, nodes)]
-        if plants[0] != plants[1]:
+    def equations_over(self, unfolding, below):
+        """The pairs (branch, equation) of an expansion, or None if it fails; raises TooMany."""
+        for side, node in zip(self.sides, unfolding.nodes):
+            side.check_over(node, below)
+        if unfolding.pairs is None:
             return None
-        if nodes not in self.pairs:
-            self.pairs[nodes] = pairs_in(self.forest, nodes[0], nodes[1])
         found = {}
-        for pair in self.pairs[nodes]:
-            for branch in self.branches_at(pair):
+        for pair, called in unfolding.pairs:
+            if self.sides[0].filled(pair[0], below, None) != self.sides[1].filled(pair[1], below, None):
+                return None
+            for branch in called:
                 for left, right in self.pairs_for(pair, below, branch):
                     found[branch, (below[branch], left, right)] = True
         return list(found)

@@ -66,9 +66,17 @@ def unclosed_in(forest, node):
 
 
 def calls_in(forest, node):
-    """The different labels in the node's tree that are no kinds."""
-    labels = [forest.labels[place] for place in unclosed_in(forest, node)]
-    return [label for label in labels if not isinstance(label, str)]
+    """For each label in the node's tree that is no kind, the number of leaves with it."""
+    counts = {node: 1}
+    found = {}
+    for place in unclosed_in(forest, node)[::-1]:
+        label = forest.labels[place]
+        if isinstance(label, str):
+            for branch in forest.below[place]:
+                counts[branch] = counts.get(branch, 0) + counts[place]
+        else:
+            found[label] = counts[place]
+    return found
 
 
 def grafted(forest, node, stands):

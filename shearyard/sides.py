@@ -24,7 +24,7 @@ class Side:
         self.fillings = {}
 
     def calls_at(self, node):
-        """The different calls in the node's tree."""
+        """The different calls in the node's tree, with the number of leaves for each."""
         if node not in self.calls:
             self.calls[node] = calls_in(self.forest, node)
         return self.calls[node]
@@ -55,13 +55,21 @@ class Side:
     def at_base(self, node, base):
         """What comes out when the side is worked on the base of a state; raises TooMany."""
         stands = {state: self.outcome(state, base) for state in self.calls_at(node)}
-        return self.checked(grafted(self.forest, node, stands))
+        self.check_size(node, stands)
+        return grafted(self.forest, node, stands)
 
-    def checked(self, node):
-        """The node itself; raises TooMany if its tree is larger than a plant may be."""
-        if self.forest.sizes[node] > MOST_KNOTS:
+    def check_size(self, node, stands):
+        """Raise TooMany if the side is larger than a plant may be where these nodes stand for its calls."""
+        size = self.forest.sizes[node]
+        for call, many in self.calls_at(node).items():
+            size += many * (self.forest.sizes[stands[call]] - 1)
+        if size > MOST_KNOTS:
             raise TooMany("knots", MOST_KNOTS)
-        return node
+
+    def check_over(self, node, below):
+        """Raise TooMany if the unfolded side, worked on the plant of an expansion, is larger than a plant may be."""
+        calls = self.calls_at(node)
+        self.check_size(node, {call: self.outcome(call[0], below[call[1]]) for call in calls})
 
     def unfolded(self, node, kind):
         """The side in which each call is replaced by the shear's result for this kind."""
@@ -75,13 +83,16 @@ class Side:
 
         The calls on the branch `kept` remain, as integers; none remains if `kept` is None.
         """
+        label = self.forest.labels[node]
+        if not isinstance(label, str):
+            return self.filled_call(label, below, kept)
         key = (node, kept, tuple([below[branch] for branch in self.branches_at(node) if branch != kept]))
         if key not in self.fillings:
-            stands = {}
-            for state, branch in self.calls_at(node):
-                leaf = branch == kept
-                stands[state, branch] = (
-                    self.forest.node_for(state, ()) if leaf else self.outcome(state, below[branch])
-                )
+            stands = {call: self.filled_call(call, below, kept) for call in self.calls_at(node)}
             self.fillings[key] = grafted(self.forest, node, stands)
         return self.fillings[key]
+
+    def filled_call(self, call, below, kept):
+        """What takes the place of one call in an unfolded side."""
+        state, branch = call
+        return self.forest.node_for(state, ()) if branch == kept else self.outcome(state, below[branch])

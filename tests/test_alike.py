@@ -326,6 +326,31 @@ class TooLarge(YardTest):
                     self.refused(KNOTS, call, first, second)
                 self.refused(KNOTS, is_alike_paper, first, second, ((0, (0,), (0,)),))
 
+    def test_copies_in_a_side_worked_on_the_plant_of_an_expansion(self):
+        """A leaf and all chains of a multiple of so many twigs are marked; each twig doubles what is above it."""
+        for twigs in (9, 10):
+            rows = [("leaf", (), 0)] + [("twig", (at,), (at + 1) % twigs) for at in range(twigs)]
+            gate = Gate(Reader(BED, twigs + 1, tuple(rows), (0,), otherwise=twigs))
+            first, second = one(gate, TWICE), one(gate, TWICE, Shear.keeping(BED))
+            if twigs == 9:
+                self.assertIs(same(first, second), True)
+            else:
+                for call in (parting, same, alike_paper):
+                    self.refused(KNOTS, call, first, second)
+
+    def test_sides_of_2000_and_2001_knots(self):
+        gate = Gate(only(BED, chain(11)))
+        for many in (9, 10):
+            rows = ((0, "twig", ("twig",) * 199 + ((0, 0),)), (0, "leaf", chain(many + 1)))
+            first, second = one(gate, Shear(BED, 1, rows)), one(gate, gate, Shear(BED, 1, rows))
+            if many == 9:
+                paper = alike_paper(first, second)
+                self.assertIs(is_alike_paper(first, second, paper), True)
+            else:
+                for call in (parting, same, alike_paper):
+                    self.refused(KNOTS, call, first, second)
+                self.refused(KNOTS, is_alike_paper, first, second, ((gate.reader.marks[0], (0,), (0,)),))
+
     def test_outcomes_of_the_plant_that_parts_the_gardens(self):
         """A shear doubles so many twigs and then changes a leaf."""
         for twigs in (9, 10):
