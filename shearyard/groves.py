@@ -18,6 +18,7 @@ class Grove:
         self.forest = Forest()
         self.fitting = []
         self.busy = []
+        self.known = {}
 
     def settle(self):
         """Look at all nodes that are new."""
@@ -42,8 +43,13 @@ class Grove:
         return found
 
     def trimmed(self, node, index):
-        """The node after the trim with this index, which fits at its root."""
-        trim = self.trims[index]
+        """The node after the trim with this index, which fits at its root; `known` keeps it."""
+        if (node, index) not in self.known:
+            self.known[node, index] = self.node_after(node, self.trims[index])
+        return self.known[node, index]
+
+    def node_after(self, node, trim):
+        """The node after a trim that fits at its root."""
         parts = self.parts_at(node, trim.stump)
         waiting = []
         for entry in trim.result[::-1]:
@@ -53,6 +59,17 @@ class Grove:
                 below = tuple([waiting.pop() for _ in range(self.bed.widths[entry])])
                 waiting.append(self.forest.node_for(entry, below))
         return waiting[0]
+
+    def trimmed_at(self, node, path, index):
+        """The node after the trim with this index, which fits at the path."""
+        trail = []
+        for branch in path:
+            trail.append(node)
+            node = self.forest.below[node][branch]
+        node = self.trimmed(node, index)
+        for knot, branch in zip(trail[::-1], path[::-1]):
+            node = self.changed(knot, branch, node)
+        return node
 
     def changed(self, node, branch, other):
         """The node with another one as this branch."""

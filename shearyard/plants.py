@@ -1,7 +1,7 @@
 """Plants: tuples of kinds in preorder."""
 
 from shearyard.errors import InvalidPlant, WrongBranches
-from shearyard.trees import check_size, ends_of, fault_place, paths_of, span_at, starts_above
+from shearyard.trees import check_size, ends_of, fault_place, levels_in, paths_of, span_at, starts_above
 
 
 def check_plant(bed, plant):
@@ -21,14 +21,7 @@ def plant_key(bed, plant):
 def height(bed, plant):
     """The number of knots on the longest path."""
     check_plant(bed, plant)
-    best = 0
-    levels = [1]
-    for kind in plant:
-        level = levels.pop()
-        best = max(best, level)
-        for _ in range(bed.widths[kind]):
-            levels.append(level + 1)
-    return best
+    return levels_in(bed, plant)
 
 
 def counted(bed, plant):

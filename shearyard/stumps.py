@@ -70,9 +70,12 @@ def parts(bed, stump, other):
 
 def parts_in(bed, stump, tree):
     """What stands at the stump's holes in a tree, unchecked, or None if the stump does not begin it."""
-    ends = ends_of(bed, tree)
+    return parts_from(stump, tree, ends_of(bed, tree), 0)
+
+
+def parts_from(stump, tree, ends, place):
+    """What stands at the stump's holes in a tree's branch at this place, or None if the stump does not begin it."""
     found = []
-    place = 0
     for entry in stump:
         if entry == HOLE:
             found.append(tree[place:ends[place]])
@@ -82,6 +85,12 @@ def parts_in(bed, stump, tree):
         else:
             return None
     return tuple(found)
+
+
+def places_of(bed, stump, tree):
+    """The places of a tree at whose branches the stump begins, unchecked."""
+    ends = ends_of(bed, tree)
+    return [place for place in range(len(tree)) if parts_from(stump, tree, ends, place) is not None]
 
 
 def common(bed, first, *others):
@@ -118,10 +127,27 @@ def compared(bed, first, second):
 def united(bed, first, second):
     """The least stump that both stumps begin, or None."""
     check_stumps(bed, (first, second))
-    entries = []
-    for branch, other in compared(bed, first, second):
-        if branch != other and HOLE not in (branch[0], other[0]):
-            return None
-        entries.extend(other if branch[0] == HOLE else branch)
+    entries = union_of(first, ends_of(bed, first), 0, second, ends_of(bed, second))
+    if entries is None:
+        return None
     check_size(entries)
     return tuple(entries)
+
+
+def union_of(first, first_ends, left, second, second_ends):
+    """The entries of the union of the first stump's branch at the place `left` and the second stump, or None."""
+    entries = []
+    right = 0
+    while right < len(second):
+        # From where on and up to where the one of the two is kept, while the other one may have a hole.
+        left_end, right_end = left + 1, right + 1
+        if first[left] == second[right] or second[right] == HOLE:
+            left_end = left + 1 if first[left] == second[right] else first_ends[left]
+            entries.extend(first[left:left_end])
+        elif first[left] == HOLE:
+            right_end = second_ends[right]
+            entries.extend(second[right:right_end])
+        else:
+            return None
+        left, right = left_end, right_end
+    return entries

@@ -1,6 +1,7 @@
 """Open plants: plants that may have tags, which are integers not below 0, as leaves (point 48)."""
 
 from shearyard.errors import InvalidPlant
+from shearyard.stumps import HOLE
 from shearyard.trees import check_size, fault_place
 
 
@@ -17,3 +18,13 @@ def tagged_key(bed, plant):
     """The number of entries and their ranks, for sorting; tags rank after all kinds, lesser ones first."""
     kinds = len(bed.kinds)
     return len(plant), tuple([bed.ranks[entry] if isinstance(entry, str) else kinds + entry for entry in plant])
+
+
+def with_tags(stump):
+    """The stump, or its entries, in which the holes are tags, numbered from left to right."""
+    entries = []
+    tag = 0
+    for entry in stump:
+        entries.append(tag if entry == HOLE else entry)
+        tag += 1 if entry == HOLE else 0
+    return tuple(entries)

@@ -61,6 +61,18 @@ def paths_of(bed, tree):
     return paths
 
 
+def levels_in(bed, tree):
+    """The number of entries on the longest path."""
+    best = 0
+    levels = [1]
+    for entry in tree:
+        level = levels.pop()
+        best = max(best, level)
+        for _ in range(bed.widths.get(entry, 0)):
+            levels.append(level + 1)
+    return best
+
+
 def span_at(bed, tree, path):
     """The place at which the branch at the path begins, and the place just behind it."""
     ends = ends_of(bed, tree)

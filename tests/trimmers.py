@@ -4,7 +4,7 @@ import random
 
 from shearyard.errors import InvalidTrim
 from shearyard.trims import Trim, Trims
-from tests.reference import flat, nested, spots_of
+from tests.reference import flat, nested, spots_of, stumps_to
 
 
 def fitted(stump, tree):
@@ -114,3 +114,60 @@ def random_open_plant(bed, dice, room):
         return (dice.choice([*bed.leaves(), 0, 1, 5]),)
     kind = dice.choice(bed.kinds)
     return (kind,) + sum([random_open_plant(bed, dice, room - 1) for _ in range(widths[kind])], ())
+
+
+def tagged(stump):
+    """The stump with tags for its holes, numbered from left to right."""
+    tags = iter(range(len(stump)))
+    return tuple([next(tags) if entry == "*" else entry for entry in stump])
+
+
+def open_plants_to(bed, entries):
+    """All open plants of at most that many entries whose tags are all different and ascend from 0 on."""
+    return [tagged(stump) for stump in stumps_to(bed, entries)]
+
+
+def nested_union(first, second):
+    """The union of two nested stumps, or None."""
+    if first[0] == "*" or second[0] == "*":
+        return second if first[0] == "*" else first
+    if first[0] != second[0]:
+        return None
+    below = [nested_union(one, other) for one, other in zip(first[1], second[1])]
+    return None if None in below else (first[0], below)
+
+
+def put_at(tree, path, other):
+    """The nested tree with another one in place of the branch at the path."""
+    if path == ():
+        return other
+    return (tree[0], [put_at(branch, path[1:], other) if at == path[0] else branch for at, branch in enumerate(tree[1])])
+
+
+def plain_peaks(trims):
+    """All peaks by their definition."""
+    stumps = [nested(trims.bed, trim.stump) for trim in trims.trims]
+    found = []
+    for i, stump in enumerate(stumps):
+        for path, branch in spots_of(stump):
+            for j, other in enumerate(stumps):
+                union = nested_union(branch, other)
+                if branch[0] == "*" or union is None or (path == () and i >= j):
+                    continue
+                found.append((tagged(flat(put_at(stump, path, union))), i, path, j))
+    return tuple(found)
+
+
+def after(trims, plant, spots):
+    """The plant after trims at these spots; each of them has to fit."""
+    for path, index in spots:
+        tree = nested(trims.bed, plant)
+        if (path, index) not in tree_spots(trims, tree):
+            raise AssertionError((plant, path, index))
+        plant = flat(cut_spot(trims, tree, path, index))
+    return plant
+
+
+def ends_from(trims, plant):
+    """All ends of a plant."""
+    return [one for one in plants_from(trims, plant, 10 ** 6) if not tree_spots(trims, nested(trims.bed, one))]
