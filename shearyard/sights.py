@@ -9,6 +9,7 @@ from shearyard.errors import NeverSeen
 from shearyard.rows import rows_from
 from shearyard.stumps import HOLE
 from shearyard.trees import ends_of, starts_above
+from shearyard.useful import useful_states
 
 
 def mask_of(states):
@@ -28,28 +29,13 @@ class Sight:
         self.stump = stump
         self.rows = self.reader.table()
         self.marks = mask_of(self.reader.marks)
-        self.useful = self.useful_mask()
+        self.useful = mask_of(list(useful_states(self.reader)))
         self.known = {}
         self.able = self.able_masks()
         self.found = self.able[0] & self.useful
         if self.found == 0:
             raise NeverSeen()
         self.wanted = self.wanted_masks()
-
-    def useful_mask(self):
-        """The mask of the states of which a plant stands in some marked plant."""
-        above = {state: {} for state in range(self.reader.states)}
-        for _, below, result in self.rows:
-            for state in below:
-                above[result][state] = True
-        useful = {mark: True for mark in self.reader.marks}
-        waiting = list(useful)
-        while waiting:
-            for state in above[waiting.pop()]:
-                if state not in useful:
-                    useful[state] = True
-                    waiting.append(state)
-        return mask_of(list(useful))
 
     def masks_below(self, kind, masks, wanted):
         """The masks of the states below, out of these masks, with which a knot of this kind has a wanted state.
