@@ -18,8 +18,8 @@ class Ledger:
 
     def __init__(self, garden):
         self.reader = admitted(garden)
-        self.shear = one_shear(garden)
-        self.source = samples_of(self.reader, self.shear)
+        self.worker = one_shear(garden)
+        self.source = samples_of(self.reader, self.worker)
         self.columns = 2 * len(garden.bed.kinds) + 1
         self.samples = []
         self.rows = []
@@ -93,7 +93,7 @@ def is_span(garden, plants):
     for plant in plants:
         if plant not in ledger.reader:
             return False
-        basis.take_in([*account_of(ledger.shear, plant), -1])
+        basis.take_in([*account_of(ledger.worker, plant), -1])
     return len(basis.rows) == len(ledger.rows)
 
 
