@@ -67,7 +67,7 @@ class Case:
         stage = self.history[-1]
         if len(stage.told) == MOST_FACTS:
             raise TooMany("facts", MOST_FACTS)
-        if len(set([*stage.names, *names])) > MOST_NAMES:
+        if len(set([*stage.mentioned, *names])) > MOST_NAMES:
             raise TooMany("names", MOST_NAMES)
 
     def tell(self, fact, text):
@@ -173,7 +173,7 @@ class Case:
     def check_known(self, name):
         """Raise InvalidName or UnknownName if the name is not known."""
         check_name(name)
-        if name not in self.history[-1].names:
+        if name not in self.history[-1].mentioned:
             raise UnknownName(name)
 
     def outcomes_of(self, plant):

@@ -15,7 +15,7 @@ class Side:
     def __init__(self, forest, bases, shear):
         self.forest = forest
         self.bases = bases
-        self.shear = shear
+        self.worker = shear
         self.calls = {}
         self.known_branches = {}
         self.results = {}
@@ -38,8 +38,8 @@ class Side:
     def result_node(self, state, kind):
         """The shear's result as an unfolded side."""
         if (state, kind) not in self.results:
-            result = self.shear.results[state][kind]
-            self.results[state, kind] = nodes_at(self.forest, self.shear.bed, result)[0]
+            result = self.worker.results[state][kind]
+            self.results[state, kind] = nodes_at(self.forest, self.worker.bed, result)[0]
         return self.results[state, kind]
 
     def outcome(self, state, base):

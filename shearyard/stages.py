@@ -6,7 +6,7 @@ from shearyard.lots import all_of, everything
 class Stage:
     """The facts told so far, as tuples of a word and of what it is told about, and the choices that they leave.
 
-    `names` are the known names in the order in which they were first mentioned. `looks` holds for each name the
+    `mentioned` are the known names in the order in which they were first mentioned. `looks` holds for each name the
     readers of its pictures, `outs` the names that came out of it, and `sources` the name that it came out of.
     """
 
@@ -14,7 +14,7 @@ class Stage:
         self.told = facts
         self.texts = texts
         self.everything = everything(bed)
-        self.names = {}
+        self.mentioned = {}
         self.looks = {}
         self.outs = {}
         self.sources = {}
@@ -34,7 +34,7 @@ class Stage:
         elif fact[0] == "refused":
             self.stops[fact[1]] = True
         for name in names_in(fact):
-            self.names[name] = True
+            self.mentioned[name] = True
 
     def root_of(self, name):
         """The name from which the name came out through any number of others, or the name itself."""

@@ -36,7 +36,7 @@ def changing(trims, reader):
     for trim in trims.trims:
         if trim.stump.count(HOLE) > MOST_HOLES:
             raise TooMany("holes", MOST_HOLES)
-    states = sorted([state for state, in joint_machine([reader]).joints])
+    states = sorted([state for (state,) in joint_machine([reader]).joints])
     for index, trim in enumerate(trims.trims):
         below = changed_states(reader, states, trim)
         if below is not None:
