@@ -5,6 +5,7 @@ import inspect
 import os
 import unittest
 
+from shearyard.beds import Bed
 from shearyard.errors import YardError
 from tests.reference import BED
 
@@ -59,7 +60,52 @@ SIGNATURES = {
         "end": "(trims, plant, *, last=False)", "walked": "(trims, plant, spots)", "ends": "(trims, plant)",
         "fewest": "(trims, plant)",
     },
+    "peaking": {
+        "peaks": "(trims)", "ends_alike": "(trims)", "two_ways": "(trims)", "meetings": "(trims)",
+        "is_meeting_paper": "(trims, paper)", "joined": "(trims, first, second)",
+    },
+    "trimlinks": {
+        "finished_reader": "(trims)", "changing": "(trims, reader)", "disturbed": "(shear, trims)",
+    },
+    "pictures": {
+        "Picture": "(bed)", "WholePicture": "(bed, plant)", "StumpPicture": "(bed, stump)",
+        "CrownPicture": "(bed, plant)", "WindowPicture": "(bed, stump)",
+        "CountPicture": "(bed, kind, modulus, rest)", "HeightPicture": "(bed, height, *, slack=1)",
+    },
+    "viewing": {
+        "seen": "(bed, *pictures)", "left": "(reader)", "views": "(garden, *pictures)",
+        "surely_seen": "(garden, picture)",
+    },
+    "windows": {
+        "kinds_above": "(reader, stump)", "kinds_below": "(reader, stump)", "sure_above": "(reader, stump)",
+        "sure_below": "(reader, stump)", "grown": "(reader, stump)", "witness": "(reader, stump, *, under=None)",
+    },
+    "accounts": {"account": "(garden, plant)"},
+    "weighing": {
+        "always": "(garden)", "holds_always": "(garden, weighing)", "breaking": "(garden, weighing)",
+        "span": "(garden)", "is_span": "(garden, plants)",
+    },
+    "heavy": {"heaviest": "(reader, weights)"},
+    "prices": {
+        "Prices": "(bed, cutting, *swaps)", "price": "(prices, plant, other)",
+        "cheapest": "(prices, plant, reader)", "nearest": "(prices, first, second)",
+    },
+    "cards": {
+        "Card": "(bed, name)",
+        "HiddenShear": "(bed, states, rows, hidden, *, start=0, name='hidden shear')",
+        "HiddenGate": "(bed, states, rows, hidden, marks, *, otherwise=0, name='hidden gate')",
+        "HiddenGarden": "(bed, *gardeners, name='hidden')",
+    },
+    "cases": {"Case": "(garden)"},
+    "bench": {"Bench": "(bed, plant, *, trims=None, budget=100)"},
+    "plain": {
+        "plain_parting": "(first, second, knots)", "plain_unmarked": "(garden, reader, knots)",
+        "plain_two_ends": "(trims, knots)", "plain_breaking": "(garden, weighing, knots)",
+        "plain_change": "(prices, plant, reader, knots)",
+    },
 }
+PICTURE = {"fits": "(self, plant)", "as_reader": "(self)", "caption": "(self)"}
+CARD = {"menu": "(self)", "filled": "(self, choice)"}
 METHODS = {
     ("beds", "Bed"): {
         "leaves": "(self)", "branches": "(self, kind)", "rank": "(self, kind)", "same": "(self, other)",
@@ -80,11 +126,27 @@ METHODS = {
         "__add__": "(self, other)",
     },
     ("trims", "Trims"): {"__len__": "(self)"},
+    **{("pictures", name): PICTURE for name in SIGNATURES["pictures"]},
+    **{("cards", name): CARD for name in ("Card", "HiddenShear", "HiddenGate")},
+    ("cards", "HiddenGarden"): {"menu": "(self)", "choices": "(self)", "filled": "(self, choice)"},
+    ("cases", "Case"): {
+        "looked": "(self, name, picture)", "went": "(self, name, other)", "refused": "(self, name)",
+        "always": "(self, reader)", "choices": "(self)", "__len__": "(self)", "open_options": "(self)",
+        "groups": "(self)", "settled": "(self)", "question": "(self)", "possible": "(self, name, reader)",
+        "sure": "(self, name, reader)", "plants": "(self, name)", "outcomes_of": "(self, plant)",
+        "surely": "(self, plant)", "facts": "(self)", "undo": "(self)", "copy": "(self)",
+    },
+    ("bench", "Bench"): {
+        "shear": "(self, gardener)", "lead": "(self, garden)", "cut": "(self, path, index)", "finish": "(self)",
+        "graft": "(self, path, plant)", "back": "(self, name)", "undo": "(self)", "redo": "(self)",
+        "change": "(self, budget)", "watch": "(self, reader)", "mark": "(self, name)", "names": "(self)",
+        "try_all": "(self, *steps)", "log": "(self)", "report": "(self)", "twin": "(self)",
+    },
 }
 CLASS_METHODS = {
     ("beds", "Bed"): {"read": "(text)"}, ("gardeners", "Shear"): {"keeping": "(bed)", "mirror": "(bed)"},
 }
-PROPERTIES = {("beds", "Bed"): ("leaf",), ("gardeners", "Shear"): ("copies", "drops")}
+PROPERTIES = {("beds", "Bed"): ("leaf",), ("gardeners", "Shear"): ("copies", "drops"), ("bench", "Bench"): ("budget",)}
 EXAMPLES = (
     """
 >>> from shearyard.beds import Bed
@@ -167,7 +229,62 @@ raises InvalidPlant(place=2)
 >>> spots(trims, ("fork", "bud", "bud")), ends(trims, ("fork", "bud", "fork", "leaf", "bud"))
 ((((), 0), ((), 1)), (('leaf',),))
 """,
+    """
+>>> from shearyard.trims import Trim, Trims
+>>> from shearyard.peaking import peaks
+>>> peaks(Trims(BED, Trim(BED, ("twig", "twig", "*"), ("bud",))))
+((('twig', 'twig', 'twig', 0), 0, (0,), 0),)
+""",
+    """
+>>> from shearyard.lots import everything
+>>> from shearyard.windows import kinds_above, witness
+>>> kinds_above(everything(BED), ("bud",))
+(None, ('twig', 0), ('fork', 0), ('fork', 1))
+""",
+    """
+>>> from shearyard.lots import everything
+>>> from shearyard.windows import witness
+>>> witness(everything(BED), ("bud",), under=("fork", 1))
+(('fork', 'leaf', 'bud'), (1,))
+""",
+    """
+>>> from shearyard.gardens import Garden
+>>> from shearyard.weighing import always
+>>> always(Garden(Bed(("leaf", 0), ("fork", 2))))
+((1, 0, 0, -1, 1), (0, 1, 0, -1, 0), (0, 0, 1, -1, 1))
+""",
 )
+# For each file some objects of its classes, and the attributes that the interface lists for them.
+OBJECTS = (
+    ("Bed(('leaf', 0))", "rows kinds leaf"),
+    ("Reader(BED, 1, (), (0,))", "bed states marks"),
+    ("Gardener(BED, 'by')", "bed name"),
+    ("Gate(Reader(BED, 1, (), (0,)))", "bed name reader"),
+    ("Shear(BED, 1, ())", "bed name states start copies drops"),
+    ("Garden(BED)", "bed gardeners name"),
+    ("Trim(BED, ('twig', '*'), (0,))", "bed stump result"),
+    ("Trims(BED)", "bed trims name"),
+    ("Picture(BED)", "bed"),
+    ("WholePicture(BED, ('leaf',))", "bed"),
+    ("StumpPicture(BED, ('leaf',))", "bed"),
+    ("CrownPicture(BED, ('leaf',))", "bed"),
+    ("WindowPicture(BED, ('leaf',))", "bed"),
+    ("CountPicture(BED, 'bud', 2, 0)", "bed"),
+    ("HeightPicture(BED, 3)", "bed"),
+    ("Prices(BED, 3, ('leaf', 'bud', 1))", "bed cutting swaps"),
+    ("Card(BED, 'blank')", "bed name"),
+    ("HiddenShear(BED, 1, (), ())", "bed name states hidden"),
+    ("HiddenGate(BED, 1, (), (), (0,))", "bed name states hidden"),
+    ("HiddenGarden(BED)", "bed gardeners name"),
+    ("Case(HiddenGarden(BED))", "garden"),
+    ("Bench(BED, ('leaf',))", "bed plant trims budget"),
+)
+SUBCLASSES = {
+    ("gardeners", "Gardener"): ("Gate", "Shear"), ("cards", "Card"): ("HiddenShear", "HiddenGate"),
+    ("pictures", "Picture"): (
+        "WholePicture", "StumpPicture", "CrownPicture", "WindowPicture", "CountPicture", "HeightPicture",
+    ),
+}
 
 
 def told(row, names):
@@ -209,9 +326,29 @@ class Interface(unittest.TestCase):
                 body = vars(getattr(importlib.import_module(f"shearyard.{file}"), name))
                 self.assertIsInstance(body[value], property)
 
+    def test_attributes(self):
+        names = {"BED": BED}
+        for file, functions in SIGNATURES.items():
+            module = importlib.import_module(f"shearyard.{file}")
+            names.update({name: getattr(module, name) for name in functions})
+        for text, attributes in OBJECTS:
+            made = eval(text, names)
+            for attribute in attributes.split():
+                with self.subTest(text, attribute=attribute):
+                    getattr(made, attribute)
+        self.assertEqual({text.split("(")[0] for text, _ in OBJECTS}, {
+            name for file, functions in SIGNATURES.items() for name in functions if name[0].isupper()
+        })
+
+    def test_direct_subclasses(self):
+        for (file, base), below in SUBCLASSES.items():
+            module = importlib.import_module(f"shearyard.{file}")
+            for name in below:
+                self.assertEqual(getattr(module, name).__bases__, (getattr(module, base),))
+
     def test_examples(self):
         for example in EXAMPLES:
-            names = {"BED": BED}
+            names = {"BED": BED, "Bed": Bed}
             *rows, wanted = example.strip().split("\n")
             for row in rows[:-1]:
                 exec(row.removeprefix(">>> "), names)
