@@ -80,6 +80,11 @@ def crossing_rows(rows, columns):
     return reduced_rows(found)
 
 
+def added(first, second):
+    """The sum of two vectors."""
+    return [one + other for one, other in zip(first, second)]
+
+
 def product_sum(first, second):
     """The sum of the products of the numbers of two vectors."""
     return sum([one * other for one, other in zip(first, second)])

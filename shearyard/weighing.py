@@ -2,54 +2,24 @@
 
 from shearyard.accounts import account_of
 from shearyard.errors import InvalidPlant, InvalidWeighing, NoPlant, TooMany
-from shearyard.limits import MOST_KNOTS
 from shearyard.oneness import admitted, one_shear
 from shearyard.plants import check_plant
 from shearyard.samples import samples_of
 from shearyard.vectors import Basis, crossing_rows, product_sum
 
 
-class Ledger:
-    """The accounts of the admitted plants of a garden.
-
-    `samples` lists, by ascending sizes, samples from whose accounts those of all admitted plants follow; none is more
-    than necessary. `rows` are their accounts with -1 behind them, so that a weighing that holds has the product 0.
-    """
-
-    def __init__(self, garden):
-        self.reader = admitted(garden)
-        self.worker = one_shear(garden)
-        self.source = samples_of(self.reader, self.worker)
-        self.columns = 2 * len(garden.bed.kinds) + 1
-        self.samples = []
-        self.rows = []
-        basis = Basis()
-        marked = [(size, (mark, index)) for mark in self.reader.marks
-                  for index, size in enumerate(self.source.sizes[mark])]
-        for size, (mark, index) in sorted(marked):
-            row = [*self.source.counter.account_in(self.source.vectors[mark][index]), -1]
-            if basis.take_in(row):
-                self.samples.append((size, (mark, index)))
-                self.rows.append(row)
-
-    def check_plants(self):
-        """Raise NoPlant if no plant is admitted."""
-        if len(self.rows) == 0:
-            raise NoPlant()
-
-    def plant_at(self, number):
-        """The plant of the sample with this number in the list; raises TooMany."""
-        size, sample = self.samples[number]
-        if size > MOST_KNOTS:
-            raise TooMany("knots", MOST_KNOTS)
-        return self.source.plant_of(sample)
+def samples_in(garden):
+    """Samples of the admitted plants; raises TooMany, and NoPlant if no plant is admitted."""
+    samples = samples_of(admitted(garden), one_shear(garden), Basis())
+    if len(samples.rows) == 0:
+        raise NoPlant()
+    return samples
 
 
 def always(garden):
     """The weighings in the reduced form from which all others that always hold follow; raises TooMany and NoPlant."""
-    ledger = Ledger(garden)
-    ledger.check_plants()
-    return tuple([tuple(row) for row in crossing_rows(ledger.rows, ledger.columns)])
+    columns = 2 * len(garden.bed.kinds) + 1
+    return tuple([tuple(row) for row in crossing_rows(samples_in(garden).rows, columns)])
 
 
 def check_weighing(bed, weighing):
@@ -61,40 +31,38 @@ def check_weighing(bed, weighing):
 def holds_always(garden, weighing):
     """Whether the weighing holds for every admitted plant; raises InvalidWeighing, TooMany and NoPlant."""
     check_weighing(garden.bed, weighing)
-    ledger = Ledger(garden)
-    ledger.check_plants()
-    return all([product_sum(weighing, row) == 0 for row in ledger.rows])
+    return all([product_sum(weighing, row) == 0 for row in samples_in(garden).rows])
 
 
 def breaking(garden, weighing):
     """An admitted plant for which the weighing does not hold, or None; raises InvalidWeighing, TooMany and NoPlant."""
     check_weighing(garden.bed, weighing)
-    ledger = Ledger(garden)
-    ledger.check_plants()
-    for number, row in enumerate(ledger.rows):
+    samples = samples_in(garden)
+    for index, row in enumerate(samples.rows):
         if product_sum(weighing, row) != 0:
-            return ledger.plant_at(number)
+            return samples.plant_at(index)
     return None
 
 
 def span(garden):
     """Admitted plants such that every weighing that holds for all of them always holds; raises TooMany and NoPlant."""
-    ledger = Ledger(garden)
-    ledger.check_plants()
-    return tuple([ledger.plant_at(number) for number in range(len(ledger.rows))])
+    samples = samples_in(garden)
+    return tuple([samples.plant_at(index) for index in range(len(samples.rows))])
 
 
 def is_span(garden, plants):
     """Whether every weighing that holds for all these plants, which have to be admitted, always holds."""
     if not all([is_plant(garden.bed, plant) for plant in plants]):
         return False
-    ledger = Ledger(garden)
+    reader = admitted(garden)
+    shear = one_shear(garden)
     basis = Basis()
     for plant in plants:
-        if plant not in ledger.reader:
+        if plant not in reader:
             return False
-        basis.take_in([*account_of(ledger.worker, plant), -1])
-    return len(basis.rows) == len(ledger.rows)
+        basis.take_in([*account_of(shear, plant), -1])
+    # No account of an admitted plant may be missing behind those of the given plants.
+    return len(samples_of(reader, shear, basis).rows) == 0
 
 
 def is_plant(bed, plant):
