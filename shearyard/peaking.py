@@ -98,7 +98,7 @@ def is_meeting_paper(trims, paper):
     if len(paper) != len(tops):
         return False
     for peak, pair in zip(tops, paper):
-        if not meets(trims, peak, pair):
+        if len(pair) != 2 or not meets(trims, peak, pair):
             return False
     return True
 

@@ -152,7 +152,7 @@ class Meetings(YardTest):
             (second, first), (first, ()), ((), ()), (first[:1], second), (first, second[:-1]), (first, first),
             (first + (((), 2),), second), (first + (((0,), 0),), second + (((0,), 0),)),
             (first + (((), 9),), second + (((), 9),)), (first + (((), -1),), second + (((), -1),)),
-            (first[1:], second), (first[:1] + first, second),
+            (first[1:], second), (first[:1] + first, second), (first,), (first, second, second), (),
         ):
             self.assertIs(is_meeting_paper(LATER, (pair, *others)), False)
         for other in ((), paper[:1], paper[:-1], paper + paper[:1], paper[::-1], paper[1:] + paper[:1]):

@@ -19,6 +19,7 @@ from tests.sums import echelon, holds_for, rank, small_accounts, weighings_of, w
 
 FORKS = Bed(("leaf", 0), ("fork", 2))
 LINE = Bed(("leaf", 0), ("twig", 1))
+LINED = Bed(("leaf", 0), ("bud", 0), ("twig", 1))
 KNOTS = named(TooMany, what="knots", limit=2000)
 STATES = named(TooMany, what="states", limit=40)
 SHEAR = named(TooMany, what="shear", limit=40)
@@ -182,6 +183,34 @@ class Holding(YardTest):
             plant = breaking(garden, (0, 1, 0, 0, 0, 0, 0, 0, 1))
             self.assertEqual(len(plant), knots)
             self.assertIs(is_span(garden, span(garden)), True)
+
+
+class Large(YardTest):
+    def test_readers_and_shears_of_forty_states(self):
+        start = time.time()
+        rows = tuple([("twig", (at,), (at + 1) % 40) for at in range(40)] + [
+            ("fork", (one, two), (one + two + 1) % 40) for one in range(40) for two in range(40)
+        ])
+        count = Gate(Reader(BED, 40, rows, (13,)))
+        for shear in (random_shear(BED, 40, 11, 6, True, 0.9), wandering_shear(BED, 40, 5)):
+            self.assertGreater(len(shear.reached()), 25)
+            garden = Garden(BED, count, shear)
+            plants = span(garden)
+            self.assertEqual(len(plants), 9 - len(always(garden)))
+            self.assertIs(is_span(garden, plants), True)
+            self.assertIs(is_span(garden, plants[1:]), False)
+        self.assertLess(time.time() - start, 40)
+
+    def test_counts_that_show_late(self):
+        # A shear that counts twigs up to 39 and makes a bud of what follows: only plants of 40 twigs show it.
+        rows = [(state, "twig", ("twig", (state + 1, 0))) for state in range(39)] + [(39, "twig", ("bud",))]
+        garden = Garden(LINED, Shear(LINED, 40, tuple(rows)))
+        self.assertIs(holds_always(garden, (0, 0, 1, 0, 0, -1, 0)), False)
+        plant = breaking(garden, (0, 0, 1, 0, 0, -1, 0))
+        self.assertEqual(len(plant), 41)
+        self.assertEqual(always(garden), ((1, 1, 0, 0, 0, 0, 1), (0, 0, 0, 1, 1, 0, 1)))
+        low = Garden(LINED, Gate(complement(StumpPicture(LINED, ("twig",) * 38 + ("*",)).as_reader())), *garden.gardeners)
+        self.assertIs(holds_always(low, (0, 0, 1, 0, 0, -1, 0)), True)
 
 
 class Spans(YardTest):
