@@ -7,7 +7,7 @@ from shearyard.limits import MOST_FACTS, MOST_NAMES
 from shearyard.lots import any_of, complement
 from shearyard.names import is_name
 from shearyard.plants import check_plant, plant_key
-from shearyard.stages import Stage, names_in
+from shearyard.stages import Stage
 from shearyard.stumps import common
 
 NOTHING = (None, None)
@@ -74,19 +74,19 @@ class Case:
         """Add a fact, if it leaves a choice; raises Conflict and TooMany."""
         earlier = self.history[-1]
         stage = Stage(self.garden.bed, earlier.told + (fact,), earlier.texts + (text,))
-        names = names_in(fact)
-        for choice in earlier.choices_left:
-            ground = self.ground_of(choice)
-            if len(names) == 0:
-                stays = len(ground.behind(fact[1]).marks) == 0
-            else:
-                # Facts about other plants hold as before.
-                stays = stage.is_open(ground, names[0], NOTHING)
-            if stays:
-                stage.choices_left.append(choice)
-        if len(stage.choices_left) == 0:
+        left = [choice for choice in earlier.choices_left if self.is_left(stage, fact, choice)]
+        if len(left) == 0:
             raise Conflict(len(earlier.told))
+        stage.choices_left = left
         self.history.append(stage)
+
+    def is_left(self, stage, fact, choice):
+        """Whether a choice that was left before the last fact of the stage is left behind it; raises TooMany."""
+        ground = self.ground_of(choice)
+        if fact[0] == "always":
+            return len(ground.behind(fact[1]).marks) == 0
+        # Only what is told about the plants that are tied to this one by facts may have become false.
+        return stage.is_open(ground, fact[1], NOTHING)
 
     def ground_of(self, choice):
         """The ground of the choice; raises NoChoice."""

@@ -77,7 +77,8 @@ class Sight:
             starts = starts_above(bed, self.stump, ends, place)
             if len(starts) > 0:
                 masks = tuple([self.able[start] for start in starts])
-                for start, mask in zip(starts, self.masks_below(entry, masks, found[place])[1:]):
+                seen = self.masks_below(entry, masks, found[place])
+                for start, mask in zip(starts, seen[1:]):
                     found[start] = mask
         return found
 

@@ -10,7 +10,8 @@ def useful_states(reader):
     useful = {mark: True for mark in reader.marks}
     waiting = list(useful)
     while waiting:
-        for state in above[waiting.pop()]:
+        last = waiting.pop()
+        for state in above[last]:
             if state not in useful:
                 useful[state] = True
                 waiting.append(state)
