@@ -200,6 +200,17 @@ class Cheapest(YardTest):
         self.assertEqual(cheapest(prices, plant, WindowPicture(BED, ("twig", "*")).as_reader()),
                          (0, ("fork", "twig", "leaf", "leaf")))
 
+    def test_a_cut_and_a_swap_at_one_price(self):
+        bed = Bed(("leaf", 0), ("bud", 0), ("cone", 0), ("twig", 1))
+        either = any_of(only(bed, ("leaf",)), only(bed, ("bud",)))
+        for swap, wanted in ((("cone", "bud", 3), "leaf"), (("cone", "bud", 2), "bud"), (("cone", "leaf", 3), "leaf")):
+            prices = Prices(bed, 3, swap)
+            self.assertEqual(cheapest(prices, ("cone",), either), (swap[2], (wanted,)))
+            self.assertEqual(nearest(prices, only(bed, ("cone",)), either), (swap[2], ("cone",), (wanted,)))
+        free = Prices(bed, 9, ("cone", "bud", 0), ("bud", "leaf", 0))
+        self.assertEqual(cheapest(free, ("twig", "bud"), StumpPicture(bed, ("twig", "*")).as_reader()), (0, ("twig", "leaf")))
+        self.assertEqual(cheapest(free, ("twig", "cone"), everything(bed)), (0, ("twig", "bud")))
+
     def test_the_reader_as_it_is_passed(self):
         # Plants that this reader's canonical one cannot have as least plants do not matter.
         reader = tower(2001)

@@ -119,6 +119,18 @@ class Left(YardTest):
         three = Reader(BED, 40, tuple(rows), (0, 1, *grow.marks), otherwise=grow.otherwise)
         self.assertEqual(left(three), ("more", ("leaf",), ("fork", "leaf", "leaf"), True))
 
+    def test_a_second_plant_of_2000_and_2001_knots(self):
+        tall = tower(1999)
+        rows = [row for row in tall.table() if row[2] != tall.otherwise]
+        last = tall.marks[0]
+        for row, knots in ((("twig", (last,), last + 1), 2000), (("fork", (0, last), last + 1), 2001)):
+            reader = Reader(BED, 40, (*rows, ("bud", (), last + 1), row), (last + 1,), otherwise=39)
+            if knots > 2000:
+                self.refused(KNOTS, left, reader)
+            else:
+                word, first, second, few = left(reader)
+                self.assertEqual((word, first, len(second), few), ("more", ("bud",), knots, True))
+
     def test_states_that_no_plant_has(self):
         self.assertEqual(left(Reader(BED, 3, (), (1, 2))), ("none",))
         self.assertEqual(left(Reader(BED, 3, (("bud", (), 1), ("twig", (2,), 1)), (1, 2))), ("one", ("bud",)))

@@ -42,6 +42,17 @@ def gardens():
             yield Garden(bed, *random_gardeners(bed, seed, seed % 3, seed % 4 > 0))
 
 
+def least_sizes(garden, accounts):
+    """The sizes of the plants of a span that is as small as it can be; `accounts` has a least plant for each account."""
+    rows, sizes = [], []
+    for account_of_plant, plant in sorted(accounts.items(), key=lambda item: len(item[1])):
+        row = [*account_of_plant, -1]
+        if rank(rows + [row]) > len(rows):
+            rows.append(row)
+            sizes.append(len(plant))
+    return sizes
+
+
 class Always(YardTest):
     def check(self, garden, knots):
         """Compare the garden's weighings with those that hold for all small plants; whether it admits a plant."""
@@ -53,6 +64,7 @@ class Always(YardTest):
         found = always(garden)
         self.assertEqual(found, weighings_of(accounts, columns))
         plants = span(garden)
+        self.assertEqual(sorted([len(plant) for plant in plants]), least_sizes(garden, accounts))
         self.assertEqual(len(plants), columns - len(found))
         self.assertEqual(rank([[*account(garden, plant), -1] for plant in plants]), len(plants))
         self.assertIs(is_span(garden, plants), True)
@@ -200,6 +212,18 @@ class Large(YardTest):
             self.assertIs(is_span(garden, plants), True)
             self.assertIs(is_span(garden, plants[1:]), False)
         self.assertLess(time.time() - start, 40)
+
+    def test_plants_of_more_than_2000_knots(self):
+        # Below each fork stands one leaf, and at the end the one plant of 1,999 knots.
+        tall = tower(1999)
+        rows = [row for row in tall.table() if row[2] != tall.otherwise]
+        last = tall.marks[0]
+        garden = Garden(BED, Gate(Reader(BED, 40, (*rows, ("fork", (0, last), last)), (last,), otherwise=39)))
+        self.assertEqual(len(always(garden)), 7)
+        self.assertEqual(len(breaking(garden, (0,) * 8 + (1,))), 1999)
+        self.refused(KNOTS, span, garden)
+        self.refused(KNOTS, breaking, garden, (1, 0, 0, 0, 0, 0, 0, 0, 1000))
+        self.assertIs(holds_always(garden, (1, 0, 0, -1, 0, 0, 0, 0, 1)), True)
 
     def test_counts_that_show_late(self):
         # A shear that counts twigs up to 39 and makes a bud of what follows: only plants of 40 twigs show it.

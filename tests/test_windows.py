@@ -230,6 +230,18 @@ class Large(YardTest):
         self.assertEqual(len(witness(one, ("twig", "*"))[0]), 2000)
         self.refused(KNOTS, grown, Reader(BED, 40, above, (last + 2,), otherwise=39), ("twig", "*"))
 
+    def test_holes_whose_stumps_together_are_too_large(self):
+        # Only one plant of 1,023 knots can stand at each of the two holes.
+        bed = Bed(("leaf", 0), ("bud", 0), ("fork", 2), ("ash", 2))
+        rows = [("leaf", (), 0), ("bud", (), 10)] + [("fork", (at, at), at + 1) for at in range(9)]
+        reader = Reader(bed, 12, (*rows, ("ash", (9, 9), 10)), (10,), otherwise=11)
+        self.assertEqual([len(stump) for stump in sure_below(reader, ("ash", "*", "*"))], [1023, 1023])
+        self.assertEqual(kinds_above(reader, ("ash", "*", "*")), (None,))
+        self.refused(KNOTS, grown, reader, ("ash", "*", "*"))
+        self.refused(KNOTS, witness, reader, ("ash", "*", "*"))
+        small = Reader(bed, 12, (*rows, ("ash", (8, 9), 10)), (10,), otherwise=11)
+        self.assertEqual(len(grown(small, ("ash", "*", "*"))), 1 + 511 + 1023)
+
     def test_a_witness_that_is_too_large(self):
         every = everything(BED)
         self.assertEqual(len(witness(every, ("fork", *("twig",) * 1997, "*", "*"))[0]), 2000)
