@@ -276,6 +276,24 @@ class Names(YardTest):
         self.refused(named(HasSource, name="ash"), case.plants, "ash")
         self.assertEqual(shape(case.plants("oak")), shape(everything(BED)))
 
+    def test_names_come_before_the_complement_of_the_reader(self):
+        case = Case(GARDEN)
+        self.refused(named(UnknownName, name="elm"), case.sure, "elm", tower(2001))
+        self.refused(named(InvalidName, name="Elm"), case.sure, "Elm", tower(2001))
+        case.looked("elm", ANY)
+        self.refused(KNOTS, case.sure, "elm", tower(2001))
+
+    def test_always_mentions_no_name(self):
+        case = Case(GARDEN)
+        case.always(everything(BED))
+        case.looked("always", ANY)
+        for name in "abcdefg":
+            case.looked(name, ANY)
+        case.always(everything(BED))
+        self.refused(NAMES, case.looked, "h", ANY)
+        self.assertEqual(case.facts()[:2], ["always", "looked always any"])
+        self.assertIs(case.possible("always", only(BED, ("bud",))), True)
+
     def test_tangles(self):
         case = Case(HiddenGarden(BED, SHEAR))
 
