@@ -7,7 +7,9 @@ from shearyard.counting import each_in
 from shearyard.errors import InvalidStump, NeverSeen, TooMany
 from shearyard.lots import complement, everything, only
 from shearyard.pictures import CountPicture, CrownPicture, StumpPicture
+from shearyard.plants import branch_at
 from shearyard.readers import Reader
+from shearyard.stumps import begins
 from shearyard.windows import grown, kinds_above, kinds_below, sure_above, sure_below, witness
 from tests.checking import YardTest, named
 from tests.gardening import common_stump
@@ -132,6 +134,35 @@ class AgainstSmallPlants(YardTest):
             plants = [plant for plant in plants_to(bed, most) if plant in reader]
             for stump in stumps_to(bed, 2):
                 self.check(bed, reader, stump, plants)
+
+
+class Shown(YardTest):
+    """Answers of readers of more states, shown by witnesses."""
+
+    def test_each_pair_is_shown_by_a_witness_and_no_other_one(self):
+        shown = 0
+        for bed, many in ((BED, 12), (WIDE, 6)):
+            pairs = [(kind, branch) for kind, width in bed.rows for branch in range(width)]
+            for seed in range(many):
+                reader = random_reader(bed, 3 + seed % 4, 600 + seed, 0.9)[0]
+                for stump in stumps_to(bed, 3)[seed % 3::3]:
+                    try:
+                        found = kinds_above(reader, stump)
+                    except NeverSeen:
+                        continue
+                    for under in (None, *pairs):
+                        asked = () if under is None else under
+                        if under not in found:
+                            self.refused(NEVER, witness, reader, stump, under=asked)
+                            continue
+                        plant, path = witness(reader, stump, under=asked)
+                        shown += 1
+                        self.assertIn(plant, reader)
+                        self.assertIs(begins(bed, grown(reader, stump), branch_at(bed, plant, path)), True)
+                        self.assertEqual(path == (), under is None)
+                        if under is not None:
+                            self.assertEqual((branch_at(bed, plant, path[:-1])[0], path[-1]), under)
+        self.assertGreater(shown, 300)
 
 
 class Edges(YardTest):
