@@ -9,18 +9,34 @@ from shearyard.readers import Reader, are_states
 from shearyard.rows import rows_from
 
 
-def check_options(hidden, shown, fits_row):
+def fits_shear(bed, states, head, result):
+    """Whether this state and kind with this result may be a row of a shear."""
+    state, kind = head
+    if not 0 <= state < states or kind not in bed.widths or len(result) > MOST_ENTRIES:
+        return False
+    return is_result(bed, states, kind, result)
+
+
+def fits_reader(bed, states, head, state):
+    """Whether this kind and these states below with this state may be a row of a reader."""
+    kind, below = head
+    if kind not in bed.widths or len(below) != bed.widths[kind]:
+        return False
+    return are_states(states, (*below, state))
+
+
+def check_options(bed, states, hidden, shown, fits_row):
     """Raise InvalidCard for the first hidden row that has no options, equal ones, or one with which it does not fit.
 
     The options of a row stand last in it, and what stands before them is its head. `shown` lists the heads of the rows
-    that are not hidden; `fits_row` says whether a head and an option are a row.
+    that are not hidden; `fits_row` says of a bed and a number of states whether a head and an option are a row there.
     """
     heads = {head: True for head in shown}
     for place, row in enumerate(hidden):
         head, options = row[:-1], row[-1]
         if len(options) == 0 or len(set(options)) < len(options) or head in heads:
             raise InvalidCard(place)
-        if not all([fits_row(head, option) for option in options]):
+        if not all([fits_row(bed, states, head, option) for option in options]):
             raise InvalidCard(place)
         heads[head] = True
 
@@ -66,14 +82,7 @@ class HiddenShear(Card):
     def __init__(self, bed, states, rows, hidden, *, start=0, name="hidden shear"):
         # The shear without the hidden rows is created only to be checked.
         Shear(bed, states, rows, start=start, name=name)
-
-        def fits_row(head, option):
-            state, kind = head
-            if not 0 <= state < states or kind not in bed.widths or len(option) > MOST_ENTRIES:
-                return False
-            return is_result(bed, states, kind, option)
-
-        check_options(hidden, [(state, kind) for state, kind, _ in rows], fits_row)
+        check_options(bed, states, hidden, [(state, kind) for state, kind, _ in rows], fits_shear)
         super().__init__(bed, name)
         self.states = states
         self.rows = rows
@@ -96,14 +105,7 @@ class HiddenGate(Card):
     def __init__(self, bed, states, rows, hidden, marks, *, otherwise=0, name="hidden gate"):
         # The reader without the hidden rows is created only to be checked.
         Reader(bed, states, rows, marks, otherwise=otherwise)
-
-        def fits_row(head, option):
-            kind, below = head
-            if kind not in bed.widths or len(below) != bed.widths[kind]:
-                return False
-            return are_states(states, (*below, option))
-
-        check_options(hidden, [(kind, below) for kind, below, _ in rows], fits_row)
+        check_options(bed, states, hidden, [(kind, below) for kind, below, _ in rows], fits_reader)
         super().__init__(bed, name)
         self.states = states
         self.rows = rows
